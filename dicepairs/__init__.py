@@ -1,0 +1,1 @@
+"""Dicepairs: dice with any whole numbers on their faces."""
