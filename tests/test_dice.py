@@ -5,7 +5,7 @@ from fractions import Fraction
 from dicepairs import dice
 from dicepairs.dice import is_die, mean, need_die, share
 from dicepairs.errors import BadDie
-from tests.things import DICE, NO_DICE
+from tests.things import NO_DICE, edge_dice
 
 
 class Interface(unittest.TestCase):
@@ -17,7 +17,7 @@ class Interface(unittest.TestCase):
 
 class WhatADieIs(unittest.TestCase):
     def test_dice(self):
-        for die in DICE:
+        for die in edge_dice():
             with self.subTest(die):
                 self.assertIs(is_die(die), True)
                 self.assertIsNone(need_die(die))
@@ -49,7 +49,7 @@ class WhatADieIs(unittest.TestCase):
                     self.assertIs(is_die(die), False)
 
     def test_what_is_handed_in_is_left_as_it_is(self):
-        for thing in DICE + [[], [1] * 9, [5, 100, 1], [3, True, 1], [2, "1"], [[4, 3], 1], {2: [1]}]:
+        for thing in edge_dice() + [[], [1] * 9, [5, 100, 1], [3, True, 1], [2, "1"], [[4, 3], 1], {2: [1]}]:
             before = deepcopy(thing)
             with self.subTest(before):
                 is_die(thing)
@@ -78,13 +78,13 @@ class Mean(unittest.TestCase):
         self.assertEqual(mean([99, 99, 99, 99, 99, 99, 99, 98]), (791, 8))
 
     def test_like_fractions(self):
-        for die in DICE:
+        for die in edge_dice():
             with self.subTest(die):
                 like = Fraction(sum(die), len(die))
                 self.assertEqual(mean(die), (like.numerator, like.denominator))
 
     def test_a_tuple_of_two_whole_numbers(self):
-        for die in DICE:
+        for die in edge_dice():
             self.assertIs(type(mean(die)), tuple)
             self.assertEqual([type(part) for part in mean(die)], [int, int])
 

@@ -1,26 +1,30 @@
 import unittest
 from collections import Counter
-from copy import deepcopy
 from fractions import Fraction
 
 from dicepairs import sums
 from dicepairs.errors import BadDice, BadNumber
 from dicepairs.sums import at_least, counts
-from tests.things import DICE, NO_DICE, NO_LISTS, NO_NUMBERS_FROM_0, brute_sums
+from tests.things import NO_DICE, NO_LISTS, NO_NUMBERS_FROM_0, brute_sums, edge_dice
 
 D6 = [1, 2, 3, 4, 5, 6]
 
-# Four dice of eight faces each: as many throws as there can be.
-WIDE = [
-    [0, 99, 98, 1, 50, 51, 49, 2], [8, 7, 6, 5, 4, 3, 2, 1], [99, 99, 0, 0, 13, 13, 13, 77],
-    [3, 14, 15, 92, 65, 35, 89, 79],
-]
 
-GOOD = [[die] for die in DICE] + [
-    [D6, D6], [D6, D6[::-1]], [[1, 3], [2, 2]], [[0, 99], [99, 0], [5]], [[1, 1], [1, 1], [1, 1]],
-    [[0], [0], [0], [0]], [[99] * 8] * 4, [[1, 2, 3, 4, 5, 6, 7, 8]] * 4, [[0, 10], [0, 20], [0, 40], [0, 80]],
-    WIDE,
-]
+def wide():
+    """Return four dice of eight faces each: as many throws as there can be."""
+    return [
+        [0, 99, 98, 1, 50, 51, 49, 2], [8, 7, 6, 5, 4, 3, 2, 1], [99, 99, 0, 0, 13, 13, 13, 77],
+        [3, 14, 15, 92, 65, 35, 89, 79],
+    ]
+
+
+def good_dice():
+    """Return lists of 1 to 4 dice, new lists each time."""
+    return [[die] for die in edge_dice()] + [
+        [[1, 2, 3, 4, 5, 6], [6, 5, 4, 3, 2, 1]], [[1, 3], [2, 2]], [[0, 99], [99, 0], [5]],
+        [[1, 1], [1, 1], [1, 1]], [[0], [0], [0], [0]], [[99] * 8] * 4, [[8, 7, 6, 5, 4, 3, 2, 1]] * 4,
+        [[0, 10], [0, 20], [0, 40], [80, 0]], [[5, 1, 3], [4, 2], [9, 9, 0, 1], [7, 6]], wide(),
+    ]
 
 
 def bad_dice():
@@ -62,13 +66,13 @@ class Counts(unittest.TestCase):
     def test_sums_that_do_not_come_are_left_out(self):
         self.assertEqual(counts([[0, 10], [0, 30]]), [(0, 1), (10, 1), (30, 1), (40, 1)])
 
-    def test_like_all_throws_one_by_one(self):
-        for dice in GOOD:
+    def test_like_all_throws_one_by_one_up_to_the_widest(self):
+        for dice in good_dice():
             with self.subTest(dice):
                 self.assertEqual(counts(dice), sorted(Counter(brute_sums(dice)).items()))
 
     def test_kinds(self):
-        for dice in GOOD:
+        for dice in good_dice():
             told = counts(dice)
             self.assertIs(type(told), list)
             for row in told:
@@ -106,10 +110,10 @@ class AtLeast(unittest.TestCase):
 
     def test_a_bound_of_a_hundred_figures(self):
         self.assertEqual(at_least([D6], 10 ** 99), (0, 1))
-        self.assertEqual(at_least(WIDE, 10 ** 100 - 1), (0, 1))
+        self.assertEqual(at_least(wide(), 10 ** 100 - 1), (0, 1))
 
     def test_each_bound_like_all_throws_one_by_one(self):
-        for dice in GOOD:
+        for dice in good_dice():
             throws = brute_sums(dice)
             many_of = Counter(throws)
             for bound in [0] + [at + more for at in many_of for more in (0, 1)]:
@@ -142,11 +146,12 @@ class AtLeast(unittest.TestCase):
 
 class TheAskersOwn(unittest.TestCase):
     def test_dice_are_left_as_they_are(self):
-        for dice in GOOD:
-            mine = deepcopy(dice)
-            counts(mine)
-            at_least(mine, 5)
-            self.assertEqual(mine, dice)
+        for mine, before in zip(good_dice(), good_dice()):
+            with self.subTest(before):
+                counts(mine)
+                self.assertEqual(mine, before)
+                at_least(mine, 5)
+                self.assertEqual(mine, before)
 
     def test_refused_dice_are_left_as_they_are(self):
         mine = [[3, 1, 2], [100, 5], [9, 8]]

@@ -38,11 +38,14 @@ BAD_LISTS = [
 
 NO_DICE = NO_LISTS + BAD_LISTS
 
-# Dice at the edges that the document names.
-DICE = [
-    [0], [99], [7], [0, 99], [99, 0], [1, 2, 3, 4, 5, 6], [6, 5, 4, 3, 2, 1], [1, 1], [2, 4, 4, 9],
-    [0] * 8, [99] * 8, [1, 2, 3, 4, 5, 6, 7, 8], [8, 3, 3, 0, 99, 50, 3, 1],
-]
+
+def edge_dice():
+    """Return dice at the edges that the document names, new lists each time."""
+    return [
+        [0], [99], [7], [0, 99], [99, 0], [1, 2, 3, 4, 5, 6], [6, 5, 4, 3, 2, 1], [1, 1], [2, 4, 4, 9],
+        [0] * 8, [99] * 8, [1, 2, 3, 4, 5, 6, 7, 8], [8, 3, 3, 0, 99, 50, 3, 1],
+    ]
+
 
 NO_NUMBERS_FROM_0 = [
     -1, -2, -10 ** 100, True, False, None, "", "1", "x", b"1", [], [1], (), (1,), {}, {1: 1},
