@@ -1,6 +1,7 @@
 """Things that several tests hand in."""
 
 from itertools import product
+from random import Random
 
 
 class Strange:
@@ -56,3 +57,44 @@ NO_NUMBERS_FROM_0 = [
 def brute_sums(dice):
     """Return the sums of all throws, each throw for itself."""
     return [sum(throw) for throw in product(*dice)]
+
+
+def balance(one, other):
+    """Return by how many more throws the first die is above than below."""
+    return sum((face > against) - (face < against) for face, against in product(one, other))
+
+
+def ring_dice(many, lift=0):
+    """Return dice of which each beats just the next one, the last one the first one, and no other one.
+
+    In each of as many regions of numbers all dice have one face: one die has the low one there,
+    the next die the high one, all others the one between.
+    """
+    dice = []
+    for at in range(many):
+        steps = [0 if region == at else 2 if (region + 1) % many == at else 1 for region in range(many)]
+        dice.append([lift + 4 * region + step for region, step in enumerate(steps)])
+    return dice
+
+
+def drawn_dice(seed, rows, many, faces, greatest):
+    """Return rows of so many dice with up to so many faces, drawn alike in each run of the tests."""
+    draw = Random(seed)
+    return [
+        [[draw.randint(0, greatest) for _ in range(draw.randint(1, faces))] for _ in range(many)]
+        for _ in range(rows)
+    ]
+
+
+def level_dice(seed, rows, many):
+    """Return rows of so many drawn dice of one mean: among such there often is a ring."""
+    draw = Random(seed)
+    told = []
+    for _ in range(rows):
+        dice = []
+        while len(dice) < many:
+            die = [draw.randint(0, 12) for _ in range(draw.randint(3, 6))]
+            if sum(die) == 6 * len(die):
+                dice.append(die)
+        told.append(dice)
+    return told
